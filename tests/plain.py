@@ -1,0 +1,52 @@
+"""Plain enumeration: every loss and every sum, slow and simple, to check the package against."""
+
+from functools import lru_cache
+from itertools import combinations, combinations_with_replacement
+
+
+@lru_cache(maxsize=None)
+def all_sums(weights):
+    return frozenset(sum(some) for many in range(len(weights) + 1) for some in combinations(weights, many))
+
+
+def rest_of(box, loss):
+    return tuple(weight for place, weight in enumerate(box) if place not in loss)
+
+
+def all_losses(box, lost):
+    return list(combinations(range(len(box)), lost))
+
+
+def every_loss(box):
+    return [loss for lost in range(len(box) + 1) for loss in all_losses(box, lost)]
+
+
+def sums_of_all_losses(box, lost):
+    return [all_sums(rest) for rest in {rest_of(box, loss) for loss in all_losses(box, lost)}]
+
+
+@lru_cache(maxsize=None)
+def plain_safe(box, lost):
+    held = sums_of_all_losses(box, lost)
+    load = 0
+    while all(load + 1 in sums for sums in held):
+        load += 1
+    return load
+
+
+def boxes_of(many, top):
+    return list(combinations_with_replacement(range(1, top + 1), many))
+
+
+def boxes_up_to(most, top):
+    return [box for many in range(1, most + 1) for box in boxes_of(many, top)]
+
+
+def plain_cheapest_price(prices, lost, load, most):
+    """The least price among all boxes of at most so many weights, None without any that is safe."""
+    costs = [
+        sum(prices[weight - 1] for weight in box)
+        for box in boxes_up_to(most, len(prices))
+        if len(box) >= lost and plain_safe(box, lost) >= load
+    ]
+    return min(costs, default=None)
