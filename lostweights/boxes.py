@@ -1,8 +1,6 @@
 """Boxes: up to which load a box is safe, whichever so many of its weights are lost."""
 
-from lostweights.checks import HEAVIEST, LIGHTEST, check_box, check_box_lost, check_number
-
-GREATEST_LOAD = 10000
+from lostweights.checks import GREATEST_LOAD, HEAVIEST, LIGHTEST, check_box, check_box_lost, check_number
 
 
 def gap_of(weights, lost):

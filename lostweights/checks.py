@@ -5,6 +5,7 @@ from lostweights.errors import BadBox, BadLoss, BadNumber
 MOST_WEIGHTS = 10
 LIGHTEST = 1
 HEAVIEST = 1000
+GREATEST_LOAD = 10000
 
 
 def is_integer(value):

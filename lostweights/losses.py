@@ -42,18 +42,23 @@ def sure_loads(box, lost):
     return tuple(sure)
 
 
-def weigh(box, loss, load):
-    """The weights left that weigh the load, the heaviest one that still fits first; None if these don't do."""
-    check_box_loss(box, loss)
-    check_number(load, 0, sum(box))
+def taken_for(weights, load):
+    """Those of ascending weights that weigh the load, the heaviest one that still fits first; None if they don't."""
     taken = []
     rest = load
     # One pass is enough: a weight that is too heavy for the rest never fits again, the rest only shrinks.
-    for weight in reversed(staying(box, loss)):
+    for weight in reversed(weights):
         if weight <= rest:
             taken.append(weight)
             rest -= weight
     return None if rest > 0 else tuple(taken)
+
+
+def weigh(box, loss, load):
+    """The weights left that weigh the load, the heaviest one that still fits first; None if these don't do."""
+    check_box_loss(box, loss)
+    check_number(load, 0, sum(box))
+    return taken_for(staying(box, loss), load)
 
 
 def flaw(box, lost):

@@ -34,6 +34,20 @@ def plain_safe(box, lost):
     return load
 
 
+@lru_cache(maxsize=None)
+def plain_reach(weights):
+    """The greatest load up to which some of the weights weigh each load."""
+    held = all_sums(weights)
+    return next(load for load in range(sum(weights) + 1) if load + 1 not in held)
+
+
+def plain_lots(box, loss, load):
+    """All tuples of places that are not lost, ascending, whose weights sum up to the load."""
+    places = [place for place in range(len(box)) if place not in loss]
+    some = [lot for many in range(len(places) + 1) for lot in combinations(places, many)]
+    return tuple(sorted(lot for lot in some if sum(box[place] for place in lot) == load))
+
+
 def boxes_of(many, top):
     return list(combinations_with_replacement(range(1, top + 1), many))
 

@@ -27,10 +27,32 @@ INTERFACE = {
         "fewest_weights": ["lost", "load"], "cheapest": ["prices", "lost", "load"],
         "shows_cheapest": ["prices", "lost", "load", "value"],
     },
+    "chances.py": {"chance_safe": ["box", "chances", "load"], "mean_safe": ["box", "chances"]},
+    "benches.py": {"Bench": []},
+    "texts.py": {
+        "box_text": ["box"], "loss_text": ["box", "loss"], "orders_text": ["box", "orders"], "tale": ["box", "orders"],
+        "read_box": ["text"], "read_loss": ["box", "text"], "read_orders": ["text"],
+    },
+    "ways.py": {
+        "lots": ["box", "loss", "load"], "ways": ["box", "loss", "load"], "shortest_lot": ["box", "loss", "load"],
+        "least_ways": ["box", "lost", "load"], "strength": ["box", "load"], "breaking": ["box", "load"],
+    },
 }
 
+# For each class of the interface its methods with their arguments, and its properties.
+METHODS = {
+    ("benches.py", "Bench"): {
+        "__init__": ["self", "box"], "lose": ["self", "place"], "find": ["self", "place"], "weigh": ["self", "load"],
+        "least_unweighed": ["self"],
+    },
+}
+PROPERTIES = {("benches.py", "Bench"): ["lost", "left", "reach"]}
+
+# What is imported from outside of the package: small exact helpers that the language names.
+LIBRARY = {("itertools", "combinations"), ("math", "gcd")}
+
 ALLOWED_BUILTINS = set("""len range enumerate zip min max sum abs sorted reversed int str bool list tuple dict set
-    isinstance ord repr any all divmod super ValueError""".split())
+    isinstance ord repr any all divmod super property ValueError""".split())
 BARRED_WORDS = ("type", "typing", "enum", "Enum", "namedtuple", "dataclass", "overload", "contextmanager", "__class__")
 
 
@@ -66,6 +88,15 @@ class InterfaceTest(unittest.TestCase):
             for word, told in wanted.items():
                 self.assertEqual(found.get(word), told, (name, word))
 
+    def test_each_method_is_defined_in_its_class_itself(self):
+        found = {(name, node.name): node for name, node in nodes(ast.ClassDef)}
+        for key, wanted in METHODS.items():
+            functions = [one for one in found[key].body if isinstance(one, ast.FunctionDef)]
+            told = {one.name: [arg.arg for arg in one.args.args] for one in functions if not one.decorator_list}
+            self.assertEqual({name: told.get(name) for name in wanted}, wanted, key)
+            properties = [one.name for one in functions if [ast.unparse(word) for word in one.decorator_list] == ["property"]]
+            self.assertLessEqual(set(PROPERTIES[key]), set(properties), key)
+
 
 class FormTest(unittest.TestCase):
     def test_the_package_holds_only_plain_files(self):
@@ -87,14 +118,17 @@ class FormTest(unittest.TestCase):
             self.assertIsInstance(node, ast.ImportFrom, name)
             words = [alias.name for alias in node.names]
             self.assertTrue(all(alias.asname is None for alias in node.names), name)
-            self.assertTrue(node.module.startswith("lostweights.") or words == ["combinations"], (name, node.module))
+            if not node.module.startswith("lostweights."):
+                self.assertLessEqual({(node.module, word) for word in words}, LIBRARY, name)
             self.assertEqual(node.level, 0, name)
 
     def test_nothing_that_the_language_leaves_out(self):
         barred = (ast.AsyncFunctionDef, ast.Global, ast.Div, ast.AnnAssign, ast.Set, ast.SetComp, ast.GeneratorExp)
         self.assertEqual(nodes(barred), [])
         self.assertEqual([node.value for _, node in nodes(ast.Constant) if isinstance(node.value, (float, complex))], [])
-        self.assertEqual([name for name, node in nodes(ast.FunctionDef) if node.decorator_list or node.returns], [])
+        self.assertEqual([name for name, node in nodes(ast.FunctionDef) if node.returns], [])
+        decorators = [ast.unparse(one) for _, node in nodes(ast.FunctionDef) for one in node.decorator_list]
+        self.assertLessEqual(set(decorators), {"property"})
         self.assertEqual([name for name, node in nodes(ast.arg) if node.annotation], [])
 
     def test_names(self):

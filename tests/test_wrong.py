@@ -2,12 +2,37 @@
 
 import unittest
 
-from lostweights import bests, boxes, losses
-from lostweights.errors import BadBox, BadLoss, BadNumber, BadPrices
+from lostweights import bests, boxes, chances, losses, texts, ways
+from lostweights.benches import Bench
+from lostweights.errors import BadBox, BadChances, BadLine, BadLoss, BadNumber, BadOrders, BadPrices
 from values import ANY_VALUES, NO_INTEGERS, NO_TUPLES, error_of
 
 BOX = (1, 2, 4)
 PRICES = (1, 3, 4)
+CHANCES = ((0, 1), (1, 2), (99, 100))
+
+
+def bench_left(box):
+    return Bench(box).left
+
+
+def bench_lost(box, place):
+    bench = Bench(box)
+    bench.lose(place)
+    return bench.lost
+
+
+def bench_found(box, place):
+    bench = Bench(box)
+    for other in range(len(box)):
+        bench.lose(other)
+    bench.find(place)
+    return bench.lost
+
+
+def bench_weigh(box, load):
+    return Bench(box).weigh(load)
+
 
 # Each function with arguments that are all right, and the kind of each.
 CALLS = (
@@ -29,6 +54,25 @@ CALLS = (
     (bests.count_safe, (3, 1, 2, 4), ("number", "number", "number", "number")),
     (bests.cheapest, (PRICES, 1, 2), ("prices", "number", "number")),
     (bests.shows_cheapest, (PRICES, 1, 2, None), ("prices", "number", "number", "any")),
+    (chances.chance_safe, (BOX, CHANCES, 3), ("box", "chances", "number")),
+    (chances.mean_safe, (BOX, CHANCES), ("box", "chances")),
+    (bench_left, (BOX,), ("box",)),
+    (bench_lost, (BOX, 1), ("box", "number")),
+    (bench_found, (BOX, 1), ("box", "number")),
+    (bench_weigh, (BOX, 3), ("box", "number")),
+    (texts.box_text, (BOX,), ("box",)),
+    (texts.loss_text, (BOX, (0,)), ("box", "loss")),
+    (texts.orders_text, (BOX, (("lose", 0),)), ("box", "orders")),
+    (texts.tale, (BOX, (("lose", 0),)), ("box", "orders")),
+    (texts.read_box, ("box 1\n",), ("text",)),
+    (texts.read_loss, (BOX, "lost 0\n"), ("box", "text")),
+    (texts.read_orders, ("box 1\nlose 0\n",), ("text",)),
+    (ways.lots, (BOX, (0,), 2), ("box", "loss", "number")),
+    (ways.ways, (BOX, (0,), 2), ("box", "loss", "number")),
+    (ways.shortest_lot, (BOX, (0,), 2), ("box", "loss", "number")),
+    (ways.least_ways, (BOX, 1, 2), ("box", "lost", "number")),
+    (ways.strength, (BOX, 2), ("box", "number")),
+    (ways.breaking, (BOX, 2), ("box", "number")),
 )
 
 # Each argument that has limits: the least value and the greatest one that may stand there.
@@ -60,6 +104,22 @@ LIMITS = (
     (bests.cheapest, (PRICES, 1, 2), 2, 1, 60),
     (bests.shows_cheapest, (PRICES, 1, 2, None), 1, 0, 4),
     (bests.shows_cheapest, (PRICES, 1, 2, None), 2, 1, 60),
+    (chances.chance_safe, (BOX, CHANCES, 3), 2, 0, 10000),
+    (bench_lost, (BOX, 1), 1, 0, 2),
+    (bench_lost, ((5,), 0), 1, 0, 0),
+    (bench_lost, ((5,) * 10, 0), 1, 0, 9),
+    (bench_found, (BOX, 1), 1, 0, 2),
+    (bench_found, ((5,) * 10, 0), 1, 0, 9),
+    (bench_weigh, ((1000,) * 10, 0), 1, 0, 10000),
+    (ways.lots, (BOX, (0,), 2), 2, 0, 7),
+    (ways.lots, ((1000,) * 10, (0,), 2), 2, 0, 10000),
+    (ways.ways, (BOX, (0,), 2), 2, 0, 7),
+    (ways.shortest_lot, (BOX, (0,), 2), 2, 0, 7),
+    (ways.least_ways, (BOX, 1, 2), 1, 0, 3),
+    (ways.least_ways, (BOX, 1, 2), 2, 0, 7),
+    (ways.strength, (BOX, 2), 1, 0, 7),
+    (ways.strength, ((1000,) * 10, 2), 1, 0, 10000),
+    (ways.breaking, (BOX, 2), 1, 0, 7),
 )
 
 WRONG_BOXES = (
@@ -83,7 +143,18 @@ WRONG_PRICES = (
 )
 RIGHT_PRICES = ((0,), (99,), (0, 99), (0,) * 12, (99,) * 12, (5, 0, 7))
 
-NAMED = {"box": BadBox, "lost": BadNumber, "number": BadNumber, "loss": BadLoss, "prices": BadPrices}
+# Put in the place of one chance of three.
+WRONG_CHANCES = (
+    (0, 0), (0, 101), (101, 101), (2, 1), (101, 100), (-1, 1), (1, -1), (-1, -1), (1, 10 ** 30), (True, 1), (False, 1),
+    (1, True), (0, False), ("0", 1), (0, "1"), (None, 1), (0, None), (0, (1,)), ([0], 1), (0, {}), (0,), (0, 1, 1),
+    (), [0, 1], {0: 1}, "01", 0, 1, None, True, ((0, 1),),
+)
+RIGHT_CHANCES = ((0, 1), (1, 1), (0, 100), (100, 100), (99, 100), (7, 100), (2, 4))
+
+NAMED = {
+    "box": BadBox, "lost": BadNumber, "number": BadNumber, "loss": BadLoss, "prices": BadPrices,
+    "chances": BadChances, "orders": BadOrders, "text": BadLine,
+}
 
 
 def with_argument(args, at, value):
@@ -156,6 +227,33 @@ class WrongValuesTest(unittest.TestCase):
             for prices in RIGHT_PRICES:
                 self.assertIsNone(error_of(function, *with_argument(args, at, prices)), (function, prices))
 
+    def test_wrong_chances(self):
+        for function, args, at in places_of("chances"):
+            for number in (0, 1, 2, 4, 10):
+                wrong = with_argument(args, at, ((0, 1),) * number)
+                self.assertEqual(error_of(function, *wrong), (BadChances,), (function, wrong))
+            for value in NO_TUPLES + (list(CHANCES), (0, 1, 1)):
+                wrong = with_argument(args, at, value)
+                self.assertEqual(error_of(function, *wrong), (BadChances,), (function, wrong))
+            for place in range(3):
+                for chance in WRONG_CHANCES:
+                    wrong = with_argument(args, at, with_argument(CHANCES, place, chance))
+                    self.assertEqual(error_of(function, *wrong), (BadChances,), (function, wrong))
+                for chance in RIGHT_CHANCES:
+                    right = with_argument(args, at, with_argument(CHANCES, place, chance))
+                    self.assertIsNone(error_of(function, *right), (function, right))
+
+    def test_wrong_orders_and_texts(self):
+        for function, args, at in places_of("orders"):
+            for value in NO_TUPLES:
+                self.assertEqual(error_of(function, *with_argument(args, at, value)), (BadOrders, None), value)
+            for value in NO_TUPLES + ((), (0,), ("lose",), ("lose", "0"), ("lose", True)):
+                wrong = with_argument(args, at, (("lose", 0), value))
+                self.assertEqual(error_of(function, *wrong), (BadOrders, 1), value)
+        for function, args, at in places_of("text"):
+            for value in ANY_VALUES:
+                self.assertEqual(error_of(function, *with_argument(args, at, value)), (BadLine, 0), value)
+
     def test_several_wrong_arguments_raise_the_error_of_the_leftmost(self):
         for function, args, kinds in CALLS:
             for first, kind in enumerate(kinds):
@@ -187,7 +285,12 @@ class SameAnswersTest(unittest.TestCase):
         self.assertEqual(value, ([1], {"a": [2]}))
         box = [2, 1]
         error_of(boxes.safe, box, 0)
+        error_of(Bench, box)
         self.assertEqual(box, [2, 1])
+        orders, pairs = [["lose", 0]], [[0, 1]]
+        error_of(texts.tale, (1,), orders)
+        error_of(chances.mean_safe, (1,), pairs)
+        self.assertEqual((orders, pairs), ([["lose", 0]], [[0, 1]]))
 
 
 if __name__ == "__main__":
