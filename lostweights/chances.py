@@ -25,13 +25,18 @@ def check_box_chances(box, chances):
         raise BadChances(f"no pair of a top and a bottom up to {GREATEST_BOTTOM} among the chances")
 
 
+def reach_with(reach, weight):
+    """The reach with one weight more, none of those before it being heavier."""
+    # Behind a weight that leaves a gap none comes that fills it, so such a one never adds to a reach.
+    return reach + weight if weight <= reach + 1 else reach
+
+
 def grown_shares(shares, weight, chance):
     """The shares of the reaches with one weight more, none of those before it being heavier."""
     top, bottom = chance
     grown = {}
     for reach, share in shares.items():
-        # Behind a weight that leaves a gap none comes that fills it, so such a one never adds to a reach.
-        further = reach + weight if weight <= reach + 1 else reach
+        further = reach_with(reach, weight)
         grown[further] = grown.get(further, 0) + share * (bottom - top)
         grown[reach] = grown.get(reach, 0) + share * top
     return grown
@@ -51,12 +56,17 @@ def fraction(top, bottom):
     return top // common, bottom // common
 
 
+def chance_of(box, chances, load):
+    """The chance that those left weigh all loads from 0 to the load, by pairs (top, bottom) without a limit."""
+    shares = reach_shares(box, chances)
+    return fraction(sum([share for reach, share in shares.items() if reach >= load]), sum(shares.values()))
+
+
 def chance_safe(box, chances, load):
     """The chance that those left weigh all loads from 0 to the load."""
     check_box_chances(box, chances)
     check_number(load, 0, GREATEST_LOAD)
-    shares = reach_shares(box, chances)
-    return fraction(sum([share for reach, share in shares.items() if reach >= load]), sum(shares.values()))
+    return chance_of(box, chances, load)
 
 
 def mean_safe(box, chances):

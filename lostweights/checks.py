@@ -1,6 +1,6 @@
 """What is an integer, a box, a loss; and the errors for values that are none."""
 
-from lostweights.errors import BadBox, BadLoss, BadNumber
+from lostweights.errors import BadBox, BadLoss, BadNumber, TooMany
 
 MOST_WEIGHTS = 10
 LIGHTEST = 1
@@ -76,3 +76,9 @@ def check_box_loss(box, loss):
     check_box(box)
     if not is_loss(box, loss):
         raise BadLoss("no ascending tuple of places of the box")
+
+
+def check_most(box, most):
+    """Raise TooMany if a box has more weights than so many."""
+    if len(box) > most:
+        raise TooMany(most)

@@ -139,27 +139,36 @@ def read_orders(text):
     return box, tuple(orders)
 
 
+def step(bench, word, place):
+    """Let the bench do an order to lose or find."""
+    if word == "lose":
+        bench.lose(place)
+    else:
+        bench.find(place)
+
+
 def step_answer(bench, word, place):
     """What the bench says to an order to lose or find."""
     try:
-        if word == "lose":
-            bench.lose(place)
-        else:
-            bench.find(place)
+        step(bench, word, place)
     except BadStep:
         return "not done"
     return f"reach {bench.reach}"
 
 
+def weights_told(weights):
+    """How the weights that weigh a load are told; none do for load 0 alone."""
+    if weights == ():
+        return "nothing"
+    return " + ".join([str(weight) for weight in weights])
+
+
 def weigh_answer(bench, load):
     """What the bench says to an order to weigh."""
     try:
-        weights = bench.weigh(load)
+        return weights_told(bench.weigh(load))
     except BadStep:
         return "not weighed"
-    if load == 0:
-        return "nothing"
-    return " + ".join([str(weight) for weight in weights])
 
 
 def answer_to(bench, order):

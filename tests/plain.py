@@ -1,7 +1,8 @@
 """Plain enumeration: every loss and every sum, slow and simple, to check the package against."""
 
+from fractions import Fraction
 from functools import lru_cache
-from itertools import combinations, combinations_with_replacement
+from itertools import combinations, combinations_with_replacement, product
 
 
 @lru_cache(maxsize=None)
@@ -64,3 +65,23 @@ def plain_cheapest_price(prices, lost, load, most):
         if len(box) >= lost and plain_safe(box, lost) >= load
     ]
     return min(costs, default=None)
+
+
+def chance_of_loss(loss, chances):
+    """The chance that exactly the places of the loss get lost."""
+    chance = Fraction(1)
+    for place, (top, bottom) in enumerate(chances):
+        lost = Fraction(top, bottom)
+        chance *= lost if place in loss else 1 - lost
+    return chance
+
+
+def plain_spreads(box, loss):
+    """For each load, also below 0, all pairs of ascending tuples of places that are not lost, none in both."""
+    found = {}
+    for sides in product((-1, 0, 1), repeat=len(box)):
+        if all(side == 0 for place, side in enumerate(sides) if place in loss):
+            load = sum(side * weight for side, weight in zip(sides, box))
+            pair = tuple(tuple(place for place, side in enumerate(sides) if side == wanted) for wanted in (1, -1))
+            found.setdefault(load, []).append(pair)
+    return found

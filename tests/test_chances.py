@@ -4,7 +4,7 @@ from fractions import Fraction
 from math import comb, gcd
 
 from lostweights.chances import chance_safe, mean_safe
-from plain import boxes_up_to, every_loss, plain_reach, rest_of
+from plain import boxes_up_to, chance_of_loss, every_loss, plain_reach, rest_of
 
 TEN_ONES = (1,) * 10
 TEN_DOUBLES = (1, 2, 4, 8, 16, 32, 64, 128, 256, 512)
@@ -12,17 +12,9 @@ TEN_HEAVY = (1000,) * 10
 SOME_CHANCES = ((0, 1), (1, 1), (0, 100), (100, 100), (1, 100), (99, 100), (1, 2), (2, 3), (4, 6), (3, 97), (5, 8))
 
 
-def chance_of(loss, chances):
-    product = Fraction(1)
-    for place, (top, bottom) in enumerate(chances):
-        lost = Fraction(top, bottom)
-        product *= lost if place in loss else 1 - lost
-    return product
-
-
 def plain_reaches(box, chances):
     """Over all losses: the reach of those left, and the chance of this very loss."""
-    return [(plain_reach(rest_of(box, loss)), chance_of(loss, chances)) for loss in every_loss(box)]
+    return [(plain_reach(rest_of(box, loss)), chance_of_loss(loss, chances)) for loss in every_loss(box)]
 
 
 def pair(fraction):

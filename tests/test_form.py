@@ -37,6 +37,15 @@ INTERFACE = {
         "lots": ["box", "loss", "load"], "ways": ["box", "loss", "load"], "shortest_lot": ["box", "loss", "load"],
         "least_ways": ["box", "lost", "load"], "strength": ["box", "load"], "breaking": ["box", "load"],
     },
+    "days.py": {"chance_after": ["box", "chances", "days", "load"], "mean_days": ["box", "chances", "load"]},
+    "pans.py": {
+        "both_loads": ["box", "loss"], "spread": ["box", "loss", "load"],
+        "shows_spread": ["box", "loss", "load", "value"], "both_safe": ["box", "lost"],
+    },
+    "finds.py": {
+        "finds": ["box", "loss", "load"], "fewest_finds": ["box", "loss", "load"], "worst_losses": ["box", "lost"],
+    },
+    "desks.py": {"Desk": []},
 }
 
 # For each class of the interface its methods with their arguments, and its properties.
@@ -45,8 +54,9 @@ METHODS = {
         "__init__": ["self", "box"], "lose": ["self", "place"], "find": ["self", "place"], "weigh": ["self", "load"],
         "least_unweighed": ["self"],
     },
+    ("desks.py", "Desk"): {"__init__": ["self", "box"], "do": ["self", "line"], "undo": ["self"], "text": ["self"]},
 }
-PROPERTIES = {("benches.py", "Bench"): ["lost", "left", "reach"]}
+PROPERTIES = {("benches.py", "Bench"): ["lost", "left", "reach"], ("desks.py", "Desk"): []}
 
 # What is imported from outside of the package: small exact helpers that the language names.
 LIBRARY = {("itertools", "combinations"), ("math", "gcd")}

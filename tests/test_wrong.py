@@ -2,9 +2,10 @@
 
 import unittest
 
-from lostweights import bests, boxes, chances, losses, texts, ways
+from lostweights import bests, boxes, chances, days, finds, losses, pans, texts, ways
 from lostweights.benches import Bench
-from lostweights.errors import BadBox, BadChances, BadLine, BadLoss, BadNumber, BadOrders, BadPrices
+from lostweights.desks import Desk
+from lostweights.errors import BadBox, BadChances, BadLine, BadLoss, BadNumber, BadOrders, BadPrices, TooMany
 from values import ANY_VALUES, NO_INTEGERS, NO_TUPLES, error_of
 
 BOX = (1, 2, 4)
@@ -32,6 +33,10 @@ def bench_found(box, place):
 
 def bench_weigh(box, load):
     return Bench(box).weigh(load)
+
+
+def desk_answer(box, line):
+    return Desk(box).do(line)
 
 
 # Each function with arguments that are all right, and the kind of each.
@@ -73,6 +78,16 @@ CALLS = (
     (ways.least_ways, (BOX, 1, 2), ("box", "lost", "number")),
     (ways.strength, (BOX, 2), ("box", "number")),
     (ways.breaking, (BOX, 2), ("box", "number")),
+    (days.chance_after, (BOX, CHANCES, 2, 3), ("box", "chances", "number", "number")),
+    (days.mean_days, (BOX, CHANCES, 3), ("box", "chances", "number")),
+    (pans.both_loads, (BOX, (0,)), ("box", "loss")),
+    (pans.spread, (BOX, (0,), 2), ("box", "loss", "number")),
+    (pans.shows_spread, (BOX, (0,), 2, None), ("box", "loss", "number", "any")),
+    (pans.both_safe, (BOX, 1), ("box", "lost")),
+    (finds.finds, (BOX, (0,), 2), ("box", "loss", "number")),
+    (finds.fewest_finds, (BOX, (0,), 2), ("box", "loss", "number")),
+    (finds.worst_losses, (BOX, 1), ("box", "lost")),
+    (desk_answer, (BOX, "lose 1"), ("box", "text")),
 )
 
 # Each argument that has limits: the least value and the greatest one that may stand there.
@@ -120,7 +135,21 @@ LIMITS = (
     (ways.strength, (BOX, 2), 1, 0, 7),
     (ways.strength, ((1000,) * 10, 2), 1, 0, 10000),
     (ways.breaking, (BOX, 2), 1, 0, 7),
+    (days.chance_after, (BOX, CHANCES, 2, 3), 2, 0, 30),
+    (days.chance_after, (BOX, CHANCES, 2, 3), 3, 0, 10000),
+    (days.mean_days, (BOX, CHANCES, 3), 2, 0, 10000),
+    (pans.spread, (BOX, (0,), 2), 2, 0, 10000),
+    (pans.shows_spread, (BOX, (0,), 2, None), 2, 0, 10000),
+    (pans.both_safe, (BOX, 1), 1, 0, 3),
+    (pans.both_safe, ((5,) * 7, 1), 1, 0, 7),
+    (finds.finds, (BOX, (0,), 2), 2, 0, 10000),
+    (finds.fewest_finds, (BOX, (0,), 2), 2, 0, 10000),
+    (finds.worst_losses, (BOX, 1), 1, 0, 3),
+    (finds.worst_losses, ((5,) * 10, 1), 1, 0, 10),
 )
+
+# The functions that take fewer weights than a box may have.
+MOST = {days.mean_days: 6, pans.both_loads: 7, pans.spread: 7, pans.shows_spread: 7, pans.both_safe: 7}
 
 WRONG_BOXES = (
     ((), None), ((1,) * 11, None), (("a",) * 11, None), ([1, 2], None), ("12", None), ({1: 2}, None), (1, None),
@@ -265,6 +294,20 @@ class WrongValuesTest(unittest.TestCase):
                 for second in range(first + 1, len(args)):
                     wrong = with_argument(with_argument(args, first, "x"), second, True)
                     self.assertEqual(error_of(function, *wrong)[0], NAMED[kind], (function, wrong))
+
+    def test_too_many_weights_behind_all_other_errors(self):
+        for function, args, kinds in [call for call in CALLS if call[2][0] == "box"]:
+            most = MOST.get(function, 10)
+            for many in range(3, 11):
+                long = with_argument(args, 0, BOX + (4,) * (many - 3))
+                if "chances" in kinds:
+                    long = with_argument(long, 1, ((1, 2),) * many)
+                wanted = None if many <= most else (TooMany, most)
+                self.assertEqual(error_of(function, *long), wanted, (function, long))
+                for at, kind in enumerate(kinds):
+                    if kind not in ("box", "any"):
+                        wrong = with_argument(long, at, None)
+                        self.assertEqual(error_of(function, *wrong)[0], NAMED[kind], (function, wrong))
 
     def test_shows_answers_for_any_last_argument(self):
         for function, args, at in places_of("any"):
